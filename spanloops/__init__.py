@@ -1,0 +1,1 @@
+"""Spanloops: loops over lists of stretches, decided for all lists."""
