@@ -20,13 +20,51 @@ SPREADS = """
 'first..6 10..12 15..last'
 """
 
+LOOPS = """
+>>> from spanloops.loops import Loop, Rule
+>>> glue = Rule(("set", "high"), ("<=", "begin", "high"), do=[("keep", "high", ("max", "high", "end"))])
+>>> first = Rule(("unset", "high"), do=[("keep", "low", "begin"), ("keep", "high", "end")])
+>>> fresh = Rule(do=[("put", "low", "high"), ("keep", "low", "begin"), ("keep", "high", "end")])
+>>> flush = Rule(("set", "high"), do=[("put", "low", "high")])
+>>> join = Loop("begin", each=[glue, first, fresh], behind=[flush])
+>>> join([(6, 9), (0, 2), (1, 5)]).puts
+((0, 5), (6, 9))
+>>> join([(3, 3)]).puts
+((3, 3),)
+"""
+
+WISHES = """
+>>> from spanloops.wishes import Moments
+>>> fault = Moments("some").fault_of(join, [(3, 3)])
+>>> (fault.kind, fault.place, fault.told, fault.due)
+('empty', 0, (3, 3), None)
+>>> Moments("some", form="any").fault_of(join, [(3, 3), (1, 4)])
+>>> Moments("some", form="any").fault_of(join, [(3, 3), (1, 4)]) is None
+True
+"""
+
+JUDGING = """
+>>> from spanloops.judging import judge
+>>> verdict = judge(join, Moments("some"))
+>>> verdict.right
+False
+>>> len(verdict.witness)
+1
+>>> verdict.fault.kind
+'empty'
+>>> empty = Rule(("==", "begin", "end"))
+>>> judge(Loop("begin", each=[empty, glue, first, fresh], behind=[flush]), Moments("some")).right
+True
+"""
+
 
 class ExampleTest(unittest.TestCase):
 
     def test_examples(self):
         # A fence behind an example would count as what the example shows.
         readme = README.read_text(encoding="ascii").replace("```", "")
-        for name, text in [("spreads", SPREADS), ("readme", readme)]:
+        for name, text in [("spreads", SPREADS), ("loops", LOOPS), ("wishes", LOOPS + WISHES),
+                           ("judging", LOOPS + WISHES + JUDGING), ("readme", readme)]:
             found = doctest.DocTestParser().get_doctest(text, {}, name, name, 0)
             told = []
             result = doctest.DocTestRunner(verbose=False).run(found, out=told.append)

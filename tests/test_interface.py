@@ -3,13 +3,24 @@
 import inspect
 import unittest
 
-from spanloops import spans, spreads
+from spanloops import judging, loops, spans, spreads, wishes
 
 FUNCTIONS = {
     spans: {
         "holds": ["pair", "moment", "ends"], "is_empty": ["pair", "ends"], "union": ["spans", "ends"],
         "in_one_form": ["spans", "ends"],
     },
+    loops: {
+        "steps": ["loop", "items", "window"], "sort_items": ["order", "items"], "is_sorted": ["order", "items"],
+    },
+    judging: {
+        "judge": ["loop", "wish"], "situation": ["loop", "wish", "spans", "window", "moment"],
+    },
+}
+
+WISH_METHODS = {
+    "__eq__": None, "uses_window": None, "wants_begins": None, "by": ["self", "ends"], "fits": ["self", "loop"],
+    "fault_of": ["self", "loop", "items", "window"],
 }
 
 METHODS = {
@@ -26,7 +37,45 @@ METHODS = {
         "next_in": ["self", "moment"], "next_out": ["self", "moment"], "gaps": ["self", "window"],
     },
     (spans, "Ends"): {"HALF": None, "SHUT": None},
+    (loops, "Rule"): {"__init__": ["self", "tests", "do"], "__eq__": None, "names": None},
+    (loops, "Loop"): {
+        "__init__": ["self", "order", "ahead", "each", "behind"], "__eq__": None, "reads": None, "registers": None,
+        "uses_window": None, "part": ["self", "word"], "by": ["self", "order"], "__call__": ["self", "items", "window"],
+    },
+    (loops, "Result"): {
+        "__init__": ["self", "puts", "answer", "tally", "broken"], "__eq__": None, "__bool__": None,
+        "times": ["self", "moment", "ends"],
+    },
+    (wishes, "Wish"): {},
+    (wishes, "Moments"): {
+        "__init__": ["self", "which", "within", "form", "ends"], "wanted": ["self", "items", "moment", "window"],
+        **WISH_METHODS,
+    },
+    (wishes, "Answer"): {
+        "__init__": ["self", "what", "ends"], "wished": ["self", "spans", "window"], **WISH_METHODS,
+    },
+    (wishes, "Number"): {
+        "__init__": ["self", "what", "ends"], "wished": ["self", "spans", "window"], **WISH_METHODS,
+    },
+    (wishes, "Fault"): {"__init__": ["self", "kind", "place", "told", "due"], "__eq__": None},
+    (judging, "Verdict"): {
+        "__init__": ["self", "right", "witness", "window", "fault", "table"], "__bool__": None,
+    },
+    (judging, "Table"): {"rows": None, "__len__": None, "__contains__": None, "example": ["self", "row"]},
 }
+
+PROPERTIES = [
+    (spans.Span, "pair"), (spans.Span, "duration"), (spreads.Spread, "hull"), (spreads.Spread, "duration"),
+    (loops.Rule, "names"), (loops.Loop, "reads"), (loops.Loop, "registers"), (loops.Loop, "uses_window"),
+    (judging.Table, "rows"),
+] + [(wish, name) for wish in (wishes.Moments, wishes.Answer, wishes.Number) for name in ("uses_window", "wants_begins")]
+
+# What is passed by name only, with its default.
+NAMED = [
+    (loops.Rule, {"do": ()}), (loops.Loop, {"ahead": (), "each": (), "behind": ()}),
+    (wishes.Moments, {"within": False, "form": "one", "ends": "half"}), (wishes.Answer, {"ends": "half"}),
+    (wishes.Number, {"ends": "half"}),
+]
 
 
 class InterfaceTest(unittest.TestCase):
@@ -52,15 +101,33 @@ class InterfaceTest(unittest.TestCase):
                         self.assertEqual(list(inspect.signature(held).parameters), parameters)
 
     def test_kinds(self):
-        self.assertIsInstance(vars(spans.Span)["pair"], property)
-        self.assertIsInstance(vars(spans.Span)["duration"], property)
-        self.assertIsInstance(vars(spreads.Spread)["hull"], property)
-        self.assertIsInstance(vars(spreads.Spread)["duration"], property)
+        for made, name in PROPERTIES:
+            self.assertIsInstance(vars(made)[name], property)
         for name in ("ever", "since", "until"):
             self.assertIsInstance(vars(spans.Span)[name], staticmethod)
         self.assertIsInstance(vars(spreads.Spread)["of"], staticmethod)
         spread = inspect.signature(spreads.Spread).parameters["spans"]
         self.assertEqual(spread.kind, inspect.Parameter.VAR_POSITIONAL)
+        tests = inspect.signature(loops.Rule).parameters["tests"]
+        self.assertEqual(tests.kind, inspect.Parameter.VAR_POSITIONAL)
+        self.assertTrue(inspect.isgeneratorfunction(loops.steps))
+        for wish in (wishes.Moments, wishes.Answer, wishes.Number):
+            self.assertEqual(wish.__bases__, (wishes.Wish,))
+
+    def test_what_is_passed_by_name_only(self):
+        for made, defaults in NAMED:
+            held = inspect.signature(made).parameters.values()
+            named = {part.name: part.default for part in held if part.kind is inspect.Parameter.KEYWORD_ONLY}
+            self.assertEqual(named, defaults)
+
+    def test_windows_and_ends_may_be_omitted(self):
+        for held, name, default in [
+            (loops.Loop.__call__, "window", None), (loops.steps, "window", None), (loops.Result.times, "ends", "half"),
+            (wishes.Moments.wanted, "window", None), (wishes.Answer.wished, "window", None),
+            (wishes.Number.wished, "window", None), (wishes.Moments.fault_of, "window", None),
+            (wishes.Answer.fault_of, "window", None), (wishes.Number.fault_of, "window", None),
+        ]:
+            self.assertEqual(inspect.signature(held).parameters[name].default, default)
 
 
 if __name__ == "__main__":

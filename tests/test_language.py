@@ -1,6 +1,7 @@
 """The rules of the language that a file shows plainly; the other rules are for the reader."""
 
 import ast
+import builtins
 import pathlib
 import unittest
 
@@ -72,6 +73,36 @@ def own_methods():
             if isinstance(part, ast.FunctionDef)}
 
 
+def parents(tree):
+    return {child: node for node in ast.walk(tree) for child in ast.iter_child_nodes(node)}
+
+
+def called(node):
+    """The name of a function or a method that a node calls, otherwise None."""
+    if not isinstance(node, ast.Call):
+        return None
+    return node.func.id if isinstance(node.func, ast.Name) else getattr(node.func, "attr", None)
+
+
+def is_set(node):
+    return isinstance(node, (ast.Set, ast.SetComp)) or (called(node) == "set" and isinstance(node.func, ast.Name))
+
+
+def methods(*decorators):
+    """The names of the methods with one of these decorators, or of those with none."""
+    return {part.name for path in FILES for made in nodes(path, ast.ClassDef) for part in made.body
+            if isinstance(part, ast.FunctionDef) and [held.id for held in part.decorator_list] == list(decorators)}
+
+
+def generators():
+    found = []
+    for path in FILES:
+        for node in nodes(path, ast.FunctionDef):
+            if any(isinstance(part, (ast.Yield, ast.YieldFrom)) for part in ast.walk(node)):
+                found.append(node.name)
+    return found
+
+
 class LanguageTest(unittest.TestCase):
 
     def for_each_file(self, check):
@@ -137,7 +168,8 @@ class LanguageTest(unittest.TestCase):
 
     def test_names(self):
         def check(path):
-            known = set(dir(__builtins__) if not isinstance(__builtins__, dict) else __builtins__)
+            # A doctest that ran before leaves its last value under this name.
+            known = set(dir(builtins)) - {"_"}
             for node in nodes(path, ast.Name):
                 self.assertNotIn(node.id, BARRED_NAMES, node.lineno)
                 self.assertFalse(node.id in known and node.id not in BUILTINS, node.id)
@@ -167,6 +199,67 @@ class LanguageTest(unittest.TestCase):
             for node in nodes(path, ast.Call):
                 if isinstance(node.func, ast.Name) and node.func.id in ("any", "all", "min", "max", "sum", "sorted"):
                     self.assertFalse([arg for arg in node.args if isinstance(arg, ast.GeneratorExp)], node.lineno)
+        self.for_each_file(check)
+
+    def test_attributes_are_neither_methods_nor_properties(self):
+        held = methods() | methods("property") | methods("staticmethod")
+
+        def check(path):
+            for node in nodes(path, ast.Attribute):
+                if isinstance(node.ctx, ast.Store):
+                    self.assertNotIn(node.attr, held, node.lineno)
+        self.for_each_file(check)
+        self.assertEqual(methods("property") & (methods() | methods("staticmethod")), set())
+
+    def test_local_names_are_not_those_of_imports_and_classes(self):
+        def check(path):
+            known = [name for _, name, _ in imported(path)] + [node.name for node in nodes(path, ast.ClassDef)]
+            for node in nodes(path, ast.Name):
+                self.assertFalse(isinstance(node.ctx, ast.Store) and node.id in known, node.id)
+        self.for_each_file(check)
+
+    def test_generators_have_names_of_their_own(self):
+        names = generators()
+        self.assertEqual(len(names), len(set(names)))
+        every = [node.name for path in FILES for node in nodes(path, ast.FunctionDef)]
+        for name in names:
+            self.assertEqual(every.count(name), 1)
+            self.assertNotIn(name, METHODS)
+
+    def test_sets_stand_where_they_may(self):
+        def check(path):
+            tree = tree_of(path)
+            above = parents(tree)
+            for node in [node for node in ast.walk(tree) if is_set(node)]:
+                held = above[node]
+                plain = called(held) in ("sorted", "len") and isinstance(held.func, ast.Name) and not held.keywords
+                self.assertTrue(plain or isinstance(held, ast.Compare), node.lineno)
+        self.for_each_file(check)
+
+    def test_views_are_iterated_at_once(self):
+        takers = ("list", "tuple", "dict", "sorted", "sum", "any", "all", "enumerate", "zip", "bytes")
+
+        def check(path):
+            tree = tree_of(path)
+            above = parents(tree)
+            for node in [node for node in ast.walk(tree) if isinstance(node, ast.Call)]:
+                views = ("items", "keys", "values") if isinstance(node.func, ast.Attribute) else (
+                    "zip", "enumerate", "reversed", "range")
+                if called(node) in views:
+                    held = above[node]
+                    iterated = isinstance(held, (ast.For, ast.comprehension)) and held.iter is node
+                    self.assertTrue(iterated or (called(held) in takers and held.args[0] is node), node.lineno)
+        self.for_each_file(check)
+
+    def test_words_that_stand_nowhere(self):
+        def check(path):
+            words = [node.value for node in nodes(path, ast.Constant) if isinstance(node.value, str)]
+            words += [node.id for node in nodes(path, ast.Name)] + [node.attr for node in nodes(path, ast.Attribute)]
+            docs = [ast.get_docstring(node, clean=False) for node in nodes(path, ast.Module, ast.ClassDef, ast.FunctionDef)]
+            for word in BARRED_WORDS + ("type", "register"):
+                self.assertNotIn(word, [part for told in words if told not in docs for part in told.split(" ")])
+            for told in ("_wall", "_WallAttr", "dataclass", "overload", "contextmanager", "(type)", "Meta", "metaclass="):
+                self.assertNotIn(told, path.read_text(encoding="ascii"))
         self.for_each_file(check)
 
 
