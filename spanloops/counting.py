@@ -1,6 +1,6 @@
 """What wishes count: moments held by pairs of edges, stretches of a kind, pairs that are out of form."""
 
-from spanloops.spans import FIRST, LAST, Ends, is_empty, union
+from spanloops.spans import FIRST, Ends, is_empty, union
 
 
 def covers(pair, moment, ends):
@@ -16,22 +16,13 @@ def touches(span, window, ends):
     return not is_empty((max(span[0], window[0]), min(span[1], window[1])), ends)
 
 
-def moments_of(pair, ends):
-    """The first moment that a pair holds and the first later one that it does not, None if it holds none."""
-    begin, end = pair
-    start = max(begin, FIRST + 1)
-    stop = min(end + 1 if ends == Ends.SHUT else end, LAST)
-    return (start, stop) if start < stop else None
-
-
 def turns(pairs, ends):
-    """The changes of how many pairs hold a moment, tuples (moment, step), ascending."""
+    """The changes of how many pairs hold a moment, tuples (moment, step), ascending; some at no moment."""
     found = []
-    for pair in pairs:
-        held = moments_of(pair, ends)
-        if held is not None:
-            found.append((held[0], 1))
-            found.append((held[1], -1))
+    for begin, end in pairs:
+        if not is_empty((begin, end), ends):
+            found.append((begin, 1))
+            found.append((end + 1 if ends == Ends.SHUT else end, -1))
     return sorted(found)
 
 
@@ -109,6 +100,7 @@ def is_counted(what, span, window, ends):
 
 def has_clash(spans, ends):
     """Whether some moment is held by two of the stretches."""
+    # Every stretch ends later than FIRST, so this is no end yet.
     reach = FIRST
     for begin, end in sorted([span for span in spans if not is_empty(span, ends)]):
         if reach > FIRST and not is_empty((begin, reach), ends):

@@ -2,7 +2,7 @@
 
 from spanloops.errors import BadDeed, BadOrder, BadRule, BadTest, BadUse, NoWindow, TooMany
 from spanloops.orders import check_items, check_order, reads_events, sorted_items
-from spanloops.rules import ITEM_NAMES, REGISTERS, names_in_deed, ends_rule, is_deed, is_test, names_in_test
+from spanloops.rules import ITEM_NAMES, REGISTERS, ends_rule, is_deed, is_test, names_in_deed, names_in_test
 from spanloops.runs import Run, check_window, fresh_edges
 from spanloops.spans import check_ends, check_moment, holds
 
@@ -126,8 +126,8 @@ class Loop:
 
     def by(self, order):
         """The loop with the same parts and another order of the same items."""
-        check_order(order)
-        if reads_events(order) != reads_events(self.order):
+        other = Loop(order)
+        if other.reads != self.reads:
             raise BadOrder(order)
         return Loop(order, ahead=self.ahead, each=self.each, behind=self.behind)
 

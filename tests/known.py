@@ -113,6 +113,11 @@ def each_in_window(order="any"):
     ])
 
 
+def each_in_window_of_all():
+    """As each_in_window, but the names of the open ends occur."""
+    return Loop("any", ahead=[Rule(("==", "left", "first"), ("==", "right", "last"))], each=each_in_window().each)
+
+
 def each_cut(order="any"):
     """Cuts each stretch at the left of the window."""
     return Loop(order, each=[
@@ -217,6 +222,7 @@ RIGHT = [
     (each_as_it_is("begin", skips=False), Moments("each", form="full", ends="shut")),
     (each_in_window(), Moments("each", within=True, form="full")),
     (each_in_window("begin end"), Moments("each", within=True, form="cut")),
+    (each_in_window_of_all(), Moments("each", within=True, form="any")),
     (each_cut(), Moments("each", form="cut")),
     (each_cut("end begin"), Moments("each", form="cut")),
     (switches(), Moments("inside", form="any")),

@@ -230,6 +230,38 @@ class WrongTest(JudgeCase):
         shut = Moments("each", form="full", ends="shut")
         self.assert_right(judge(Loop("end", each=each), shut), Loop("end", each=each), shut)
 
+    def test_events_never_are_at_open_ends(self):
+        breaks = [Rule((sign, "at", name), ("<", "high", "at")) for sign, name in [("==", "first"), ("<=", "first"),
+                                                                                   ("==", "last")]]
+        beyond = [Rule(("<", "at", "first"), ("<", "high", "at")), Rule(("<=", "last", "at"), ("<", "high", "at"))]
+        for rules in (breaks, beyond):
+            base = known.switches()
+            loop = Loop("at", ahead=base.ahead, each=rules + list(base.each), behind=base.behind)
+            self.assert_right(judge(loop, Moments("inside", form="any")), loop, Moments("inside", form="any"))
+        base = known.switches()
+        inner = Rule(("<", "first", "at"), ("<", "at", "last"), ("<", "high", "at"))
+        loop = Loop("at", each=[inner, *base.each], behind=base.behind)
+        self.assertEqual(self.assert_fewest(loop, Moments("inside", form="any"), 1).fault.kind, "broken")
+
+    def test_equal_moments_of_events_in_each_order(self):
+        possible = {"at": {"in in", "in out", "out in", "out out"}, "at in": {"in in", "in out", "out out"},
+                    "at out": {"out out", "out in", "in in"}}
+        for order, words in possible.items():
+            for one, other in itertools.product(("in", "out"), repeat=2):
+                # As known.switches; it breaks if these two words come one behind the other at one moment.
+                kept = {word: ("keep", "mark", "at") if word == one else ("drop", "mark") for word in ("in", "out")}
+                each = [Rule((other,), ("set", "mark"), ("==", "mark", "at"), ("<", "high", "at")),
+                        Rule(("in",), ("unset", "low"), do=[("keep", "low", "at"), kept["in"]]),
+                        Rule(("out",), ("set", "low"), do=[("put", "low", "at"), ("drop", "low"), kept["out"]]),
+                        Rule(("in",), do=[kept["in"]]), Rule(("out",), do=[kept["out"]])]
+                loop = Loop(order, each=each, behind=known.switches().behind)
+                wish = Moments("inside", form="any")
+                verdict = self.assert_fewest(loop, wish, 2)
+                if f"{one} {other}" in words:
+                    self.assertEqual((len(verdict.witness), verdict.fault.kind), (2, "broken"))
+                else:
+                    self.assert_right(verdict, loop, wish)
+
     def test_after_a_stop_and_a_say_the_other_items_count(self):
         for deed in [("stop",), ("say", True)]:
             loop = Loop("begin", each=[known.SKIP, Rule(do=[("put", "begin", "end"), deed])])

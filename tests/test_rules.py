@@ -52,7 +52,8 @@ NO_DEEDS = ODD_OBJECTS + [
     ("put", "low", "high", "mark"), ("set", "low"), ("unset", "low"), ("add",), ("add", 10), ("add", -10), ("add", True),
     ("add", False), ("add", None), ("add", "1"), ("add", [1]), ("add", 10 ** 39), ("add", 1, 1), ("say",), ("say", 1),
     ("say", 0), ("say", None), ("say", "yes"), ("say", [True]), ("say", True, False), (True, "low"), (1, 2), (None,),
-    ("in",), ("<", "low", "high"), (("stop",),), ("add", ("add", 1)),
+    ("in",), ("<", "low", "high"), (("stop",),), ("add", ("add", 1)), ("tell", True), ("set", False), (None, True),
+    ("keep", True), ("in", False),
 ] + [("keep", "low", term) for term in NO_TERMS] + [("put", term, "end") for term in NO_TERMS] + [
     ("put", "low", term) for term in NO_TERMS
 ]

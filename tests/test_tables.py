@@ -192,7 +192,7 @@ class TableTest(unittest.TestCase):
             (known.joining(), Moments("some"), 3), (known.joining(skips=False), Moments("some", ends="shut"), 3),
             (known.each_as_it_is("end", skips=False), Moments("each", form="any"), 2),
             (known.each_cut(), Moments("each", form="cut"), 2), (known.each_in_window(), Moments("each", within=True, form="full"), 2),
-            (known.gaps_everywhere(), Moments("none"), 3),
+            (known.gaps_everywhere(), Moments("none"), 3), (known.each_in_window_of_all(), Moments("each", within=True, form="any"), 2),
         ]:
             verdict = judge(loop, wish)
             items = oracle.all_items(False, 4)
