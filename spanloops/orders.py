@@ -92,3 +92,21 @@ def sort_key(order, item):
 def sorted_items(order, items):
     """The items as a loop of this order reads them."""
     return sorted(items, key=lambda item: sort_key(order, item))
+
+
+def is_weaker(order, other):
+    """Whether this order is weaker than another one of the same items."""
+    # The longer orders begin with the names of the shorter ones.
+    return order != other and (order == "any" or other.startswith(order))
+
+
+def weakest(orders, is_right):
+    """Those of the orders that are right, without those than which another right one is weaker.
+
+    The weaker orders stand first. A stronger one needs not be asked when a weaker one is right.
+    """
+    found = []
+    for order in orders:
+        if not any([is_weaker(other, order) for other in found]) and is_right(order):
+            found.append(order)
+    return tuple(found)

@@ -46,7 +46,7 @@ class Walk:
     """Follows a loop and what a watch follows, from stand to stand."""
 
     def __init__(self, loop, wish, watch):
-        self.loop = loop
+        self.given = loop
         self.watch = watch
         self.slots = slot_names(loop, wish, watch.extra)
         self.moves = {}
@@ -68,13 +68,13 @@ class Walk:
         """Where the run stands now, the gain of the watch, and the values that it knows, ascending."""
         gain = self.watch.gain(run, item)
         ranks, line = ranked(self.slots, run.edges)
-        word = run.word if self.loop.order in ("at in", "at out") else None
+        word = run.word if self.given.order in ("at in", "at out") else None
         return (run.state, ranks, word), gain, line
 
     def opened(self, ranks):
         """What `ahead` makes of a start."""
         run = self.run_at(("reading", ranks, None))
-        run.do_part("ahead", self.loop.ahead)
+        run.do_part("ahead", self.given.ahead)
         return self.settled(run, None)
 
     def stepped(self, stand, item):
@@ -82,7 +82,7 @@ class Walk:
         run = self.run_at(stand)
         run.take(item)
         if run.state == "reading":
-            run.do_part("each", self.loop.each)
+            run.do_part("each", self.given.each)
         return self.settled(run, item)
 
     def moves_from(self, stand):
@@ -100,7 +100,7 @@ class Walk:
         if stand not in self.closings:
             run = self.run_at(stand)
             if not run.has_ended():
-                run.do_part("behind", self.loop.behind)
+                run.do_part("behind", self.given.behind)
             self.closings[stand] = None if run.state == "broken" else self.watch.gain(run, None)
         return self.closings[stand]
 
@@ -115,19 +115,19 @@ class Walk:
     def items_at(self, stand):
         """Items that may come next, one for each way in which they lie between the values."""
         edges = self.edges_at(stand[1])
-        items = event_places(edges) if reads_events(self.loop.order) else stretch_places(edges)
+        items = event_places(edges) if reads_events(self.given.order) else stretch_places(edges)
         last = self.last_item(stand, edges)
         if last is None:
             return items
-        key = sort_key(self.loop.order, last)
-        return [item for item in items if sort_key(self.loop.order, item) >= key]
+        key = sort_key(self.given.order, last)
+        return [item for item in items if sort_key(self.given.order, item) >= key]
 
     def last_item(self, stand, edges):
         """The sort edges of the last item in its place, None if there is none or the order has none."""
-        known = [edges[name] for name in SORT_EDGES[self.loop.order]]
+        known = [edges[name] for name in SORT_EDGES[self.given.order]]
         if not known or known[0] is None:
             return None
-        if reads_events(self.loop.order):
+        if reads_events(self.given.order):
             return (stand[2], edges["at"])
         return (edges.get("begin"), edges.get("end"))
 

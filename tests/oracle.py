@@ -243,3 +243,79 @@ def fewest(loop, wish, most, many, windows):
                 if fault(loop, wish, list(rows), window) is not None:
                     return count
     return None
+
+
+def parting(one, other, items, window, ends):
+    """How two loops part on a list and a window: (kind, place, told), or None."""
+    runs = [Machine(loop, items, window) for loop in (one, other)]
+    for kind, told in [
+        ("broken", tuple(run.broken is not None for run in runs)),
+        ("answer", tuple(run.answer for run in runs)),
+        ("number", tuple(run.tally for run in runs)),
+    ]:
+        if repr(told[0]) != repr(told[1]):
+            return (kind, None, told)
+    for moment in moments_near(runs[0].puts + runs[1].puts):
+        told = tuple(sum(holds(pair, moment, ends) for pair in run.puts) for run in runs)
+        if told[0] != told[1]:
+            return ("moment", moment, told)
+    return None
+
+
+def part_by(one, other, ends, most, many, windows):
+    """The least number of items, up to `most`, of a list over so many edges on which two loops part; or None."""
+    items = all_items(one.reads == "events", many)
+    for count in range(most + 1):
+        for rows in itertools.product(items, repeat=count):
+            if any(parting(one, other, list(rows), window, ends) for window in windows):
+                return count
+    return None
+
+
+def changes(sweep, spans):
+    """The changes of a sweep, by [26]."""
+    rows = sorted([span for span in spans if not (sweep.skips and span[0] == span[1])], key=KEYS[sweep.order])
+    found = [change for begin, end in rows for change in ((begin, 1), (end, -1))]
+    first = {"ends": -1, "begins": 1, "list": None}[sweep.ties]
+    return sorted(found, key=lambda change: (change[0], first is not None and change[1] != first))
+
+
+def readings(sweep, spans):
+    """The readings of a sweep, by [27]."""
+    found = changes(sweep, spans)
+    told = [(edge, sum(step for _, step in found[:at + 1])) for at, (edge, _) in enumerate(found)]
+    if sweep.settles:
+        told = [row for at, row in enumerate(told) if row[0] not in [edge for edge, _ in told[at + 1:]]]
+    return told
+
+
+def peak(sweep, spans):
+    """The peak of a sweep, by [28]."""
+    told = readings(sweep, spans)
+    greatest = max([level for _, level in told], default=0)
+    if greatest <= 0:
+        return None
+    at = [level for _, level in told].index(greatest)
+    return (told[at][0], next(edge for edge, level in told[at:] if level < greatest), greatest)
+
+
+def spans_at(sweep, spans, level, exactly):
+    """The spans of a sweep, by [29]."""
+    rows, begin = [], None
+    for edge, reached in readings(sweep, spans):
+        on = reached == level or (reached > level and not exactly)
+        if on:
+            begin = edge if begin is None else begin
+        elif begin is not None:
+            if sweep.drops and begin == edge:
+                pass
+            elif sweep.glues and rows and rows[-1][1] == begin:
+                rows.append((rows.pop()[0], edge))
+            else:
+                rows.append((begin, edge))
+            begin = None
+    return rows
+
+
+def depth(spans, moment, ends):
+    return sum(holds(span, moment, ends) for span in spans)

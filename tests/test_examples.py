@@ -57,6 +57,19 @@ False
 True
 """
 
+SWEEPS = """
+>>> from spanloops.sweeps import Sweep
+>>> sweep = Sweep(ties="list")
+>>> sweep([(2, 4), (0, 2)])
+2
+>>> sweep.changes([(2, 4), (0, 2)])
+[(0, 1), (2, 1), (2, -1), (4, -1)]
+>>> sweep.spans_at([(2, 4), (0, 2)], 2)
+[(2, 2)]
+>>> Sweep().spans_at([(2, 4), (0, 2)], 1)
+[(0, 2), (2, 4)]
+"""
+
 
 class ExampleTest(unittest.TestCase):
 
@@ -64,7 +77,7 @@ class ExampleTest(unittest.TestCase):
         # A fence behind an example would count as what the example shows.
         readme = README.read_text(encoding="ascii").replace("```", "")
         for name, text in [("spreads", SPREADS), ("loops", LOOPS), ("wishes", LOOPS + WISHES),
-                           ("judging", LOOPS + WISHES + JUDGING), ("readme", readme)]:
+                           ("judging", LOOPS + WISHES + JUDGING), ("sweeps", SWEEPS), ("readme", readme)]:
             found = doctest.DocTestParser().get_doctest(text, {}, name, name, 0)
             told = []
             result = doctest.DocTestRunner(verbose=False).run(found, out=told.append)

@@ -3,7 +3,7 @@
 import inspect
 import unittest
 
-from spanloops import judging, loops, spans, spreads, wishes
+from spanloops import judging, loops, pools, questions, spans, spreads, sweeps, wishes
 
 FUNCTIONS = {
     spans: {
@@ -15,6 +15,10 @@ FUNCTIONS = {
     },
     judging: {
         "judge": ["loop", "wish"], "situation": ["loop", "wish", "spans", "window", "moment"],
+    },
+    questions: {
+        "parting": ["one", "other", "ends"], "alike": ["one", "other", "ends"], "needs": ["loop", "wish"],
+        "bears": ["loop", "wish"],
     },
 }
 
@@ -62,19 +66,33 @@ METHODS = {
         "__init__": ["self", "right", "witness", "window", "fault", "table"], "__bool__": None,
     },
     (judging, "Table"): {"rows": None, "__len__": None, "__contains__": None, "example": ["self", "row"]},
+    (questions, "Parting"): {"__init__": ["self", "witness", "window", "kind", "place", "told"]},
+    (pools, "Row"): {"__init__": ["self", "rule", "only", "unless"], "stands": ["self", "options"]},
+    (pools, "Pool"): {
+        "__init__": ["self", "order", "sorts", "ahead", "each", "behind"], "options": None, "loop": ["self", "options"],
+        "verdict": ["self", "wish", "options"], "remedies": ["self", "wish"], "harms": ["self", "wish"],
+    },
+    (sweeps, "Sweep"): {
+        "__init__": ["self", "order", "ties", "settles", "skips", "glues", "drops"], "__eq__": None, "__repr__": None,
+        "by": ["self", "order"], "__call__": ["self", "spans"], "changes": ["self", "spans"],
+        "readings": ["self", "spans"], "peak": ["self", "spans"], "spans_at": ["self", "spans", "level", "exactly"],
+    },
 }
 
 PROPERTIES = [
     (spans.Span, "pair"), (spans.Span, "duration"), (spreads.Spread, "hull"), (spreads.Spread, "duration"),
     (loops.Rule, "names"), (loops.Loop, "reads"), (loops.Loop, "registers"), (loops.Loop, "uses_window"),
-    (judging.Table, "rows"),
+    (judging.Table, "rows"), (pools.Pool, "options"),
 ] + [(wish, name) for wish in (wishes.Moments, wishes.Answer, wishes.Number) for name in ("uses_window", "wants_begins")]
 
 # What is passed by name only, with its default.
 NAMED = [
     (loops.Rule, {"do": ()}), (loops.Loop, {"ahead": (), "each": (), "behind": ()}),
     (wishes.Moments, {"within": False, "form": "one", "ends": "half"}), (wishes.Answer, {"ends": "half"}),
-    (wishes.Number, {"ends": "half"}),
+    (wishes.Number, {"ends": "half"}), (questions.parting, {"ends": "half"}), (questions.alike, {"ends": "half"}),
+    (pools.Row, {"only": None, "unless": None}), (pools.Pool, {"sorts": (), "ahead": (), "each": (), "behind": ()}),
+    (sweeps.Sweep, {"order": "any", "ties": "ends", "settles": False, "skips": False, "glues": False, "drops": False}),
+    (sweeps.Sweep.spans_at, {"exactly": False}),
 ]
 
 
