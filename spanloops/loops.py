@@ -172,17 +172,17 @@ def steps(loop, items, window=None):
     """Yields what each step of a run does: (part, item, number of the rule, registers, puts)."""
     check_call(loop, items, window)
     run = opened_run(loop, window)
-    yield ("ahead", None, run.number, run.held(), tuple(run.puts))
+    yield ("ahead", None, run.rule_number, run.held(), tuple(run.puts))
     for item in sorted_items(loop.order, items):
         if run.state == "reading":
             done = len(run.puts)
             run.take(item)
             run.do_part("each", loop.each)
-            yield ("each", item, run.number, run.held(), tuple(run.puts[done:]))
+            yield ("each", item, run.rule_number, run.held(), tuple(run.puts[done:]))
     if not run.has_ended():
         done = len(run.puts)
         run.do_part("behind", loop.behind)
-        yield ("behind", None, run.number, run.held(), tuple(run.puts[done:]))
+        yield ("behind", None, run.rule_number, run.held(), tuple(run.puts[done:]))
 
 
 def sort_items(order, items):

@@ -52,7 +52,7 @@ class Run:
         self.word = None
         self.state = "reading"
         self.place = None
-        self.number = 0
+        self.rule_number = 0
         self.puts = []
         self.tally = 0
         self.answer = None
@@ -124,12 +124,12 @@ class Run:
         return True
 
     def do_part(self, part, rules):
-        """Does the first rule of a part whose tests all hold; `number` tells which one, 0 for none."""
-        self.number = 0
+        """Does the first rule of a part whose tests all hold; `rule_number` tells which one, 0 for none."""
+        self.rule_number = 0
         for number, rule in enumerate(rules, start=1):
             told = self.applies(rule)
             if told is None or told:
-                self.number = number
+                self.rule_number = number
                 if told is None or not self.obeys_all(rule.deeds):
                     self.state = "broken"
                     self.place = (part, number)
