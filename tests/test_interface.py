@@ -3,7 +3,7 @@
 import inspect
 import unittest
 
-from spanloops import judging, loops, pools, questions, spans, spreads, sweeps, wishes
+from spanloops import days, desk, judging, loops, pools, questions, spans, spreads, sweepjudge, sweeps, texts, wishes
 
 FUNCTIONS = {
     spans: {
@@ -19,6 +19,14 @@ FUNCTIONS = {
     questions: {
         "parting": ["one", "other", "ends"], "alike": ["one", "other", "ends"], "needs": ["loop", "wish"],
         "bears": ["loop", "wish"],
+    },
+    sweepjudge: {
+        "judge_sweep": ["sweep", "wish", "level", "ends"], "sweep_needs": ["sweep", "wish", "level", "ends"],
+        "sweep_remedies": ["sweep", "wish", "level", "ends"],
+    },
+    texts: {
+        "write_items": ["items"], "write_pairs": ["pairs"], "read_items": ["text"], "write_wish": ["wish"],
+        "read_wish": ["text"], "write_loop": ["loop"], "read_loop": ["text"], "write_rule": ["rule"], "read_rule": ["text"],
     },
 }
 
@@ -77,6 +85,17 @@ METHODS = {
         "by": ["self", "order"], "__call__": ["self", "spans"], "changes": ["self", "spans"],
         "readings": ["self", "spans"], "peak": ["self", "spans"], "spans_at": ["self", "spans", "level", "exactly"],
     },
+    (sweepjudge, "SweepVerdict"): {"__init__": ["self", "right", "witness", "told", "due"], "__bool__": None, "__len__": None},
+    (days, "Days"): {
+        "__init__": ["self", "length", "offset"], "MOST": None, "__eq__": None, "number": ["self", "moment"],
+        "position": ["self", "moment"], "bounds": ["self", "number"], "pieces": ["self", "spans"],
+        "joined": ["self", "pieces"], "totals": ["self", "spans"], "drawn": ["self", "spans", "number", "columns"],
+        "drawing": ["self", "spans", "first", "last", "columns"],
+    },
+    (desk, "Desk"): {
+        "__init__": ["self"], "do": ["self", "command"], "run": ["self", "commands"], "lines": ["self"],
+        "kept": ["self", "name"], "__len__": None, "__contains__": None,
+    },
 }
 
 PROPERTIES = [
@@ -92,7 +111,9 @@ NAMED = [
     (wishes.Number, {"ends": "half"}), (questions.parting, {"ends": "half"}), (questions.alike, {"ends": "half"}),
     (pools.Row, {"only": None, "unless": None}), (pools.Pool, {"sorts": (), "ahead": (), "each": (), "behind": ()}),
     (sweeps.Sweep, {"order": "any", "ties": "ends", "settles": False, "skips": False, "glues": False, "drops": False}),
-    (sweeps.Sweep.spans_at, {"exactly": False}),
+    (sweeps.Sweep.spans_at, {"exactly": False}), (sweepjudge.judge_sweep, {"level": 1, "ends": "half"}),
+    (sweepjudge.sweep_needs, {"level": 1, "ends": "half"}), (sweepjudge.sweep_remedies, {"level": 1, "ends": "half"}),
+    (days.Days, {"offset": 0}),
 ]
 
 
