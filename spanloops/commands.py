@@ -45,9 +45,6 @@ FORMS = {
 }
 KEPT = ("any", "list", "spans", "loop")
 
-# These may have several words, so they stand last.
-LONG = ("items", "order", "rule", "wish")
-
 
 def form_of(words):
     """The form that these words must have, None if no command begins like this."""
@@ -58,11 +55,11 @@ def form_of(words):
 
 
 def texts_behind(words, form):
-    """What stands behind the first word, one text for each part of the form if there are enough."""
+    """The texts for the parts of the form, fewer if there are too few words; the last part takes the rest."""
     many = len(form)
-    if many > 0 and form[-1] in LONG and len(words) > many:
-        return words[1:many] + [" ".join(words[many:])]
-    return words[1:]
+    if many == 0:
+        return words[1:]
+    return words[1:many] + [" ".join(words[many:])]
 
 
 def read_command(command):

@@ -30,9 +30,7 @@ class Row:
 
     def stands(self, options):
         """Whether the rule stands in the loop of these options."""
-        if self.unless is not None and self.unless in options:
-            return False
-        return self.only is None or self.only in options
+        return self.unless not in options and (self.only is None or self.only in options)
 
 
 def check_sorts(order, sorts):

@@ -60,22 +60,21 @@ def as_edge(text):
     return number if is_edge(number) else None
 
 
-def as_pair(text):
-    """A pair of edges."""
-    begin, dots, end = text.partition("..")
-    pair = (as_edge(begin), as_edge(end))
-    return None if dots == "" or pair[0] is None or pair[1] is None else pair
+def pair_in(text):
+    """A pair of edges, with None for what is no edge."""
+    begin, _, end = text.partition("..")
+    return (as_edge(begin), as_edge(end))
 
 
 def as_span(text):
     """A stretch."""
-    pair = as_pair(text)
+    pair = pair_in(text)
     return pair if is_stretch(pair) else None
 
 
 def as_window(text):
     """A window."""
-    pair = as_pair(text)
+    pair = pair_in(text)
     return pair if is_window(pair) else None
 
 
@@ -91,7 +90,7 @@ def as_items(text):
     if text == "none":
         return []
     words = text.split(" ")
-    if words[0].find("@") >= 0:
+    if "@" in words[0]:
         items = [as_event(word) for word in words]
     else:
         items = [as_span(word) for word in words]
@@ -107,7 +106,7 @@ def as_wish(text):
         within = len(words) == 5
         if which in TIMES and form in FORMS and as_ends(ends) is not None and words[4:] in ([], ["within"]):
             return Moments(which, within=within, form=form, ends=ends)
-    if kind in ("answer", "number") and len(words) == 3 and as_ends(words[2]) is not None:
+    if len(words) == 3 and as_ends(words[2]) is not None:
         if kind == "answer" and words[1] in ANSWERS:
             return Answer(words[1], ends=words[2])
         if kind == "number" and words[1] in NUMBERS:
@@ -155,10 +154,10 @@ def as_deed(text):
 
 def as_rule(text):
     """A rule without its part."""
-    head, colon, tail = text.partition(": ")
+    head, _, tail = text.partition(": ")
     tests = [] if head == "else" else [as_test(part) for part in head.split(", ")]
     deeds = [] if tail == "pass" else [as_deed(part) for part in tail.split("; ")]
-    if colon == "" or any([part is None for part in tests + deeds]):
+    if any([part is None for part in tests + deeds]):
         return None
     try:
         return Rule(*tests, do=deeds)

@@ -148,8 +148,8 @@ class Sweep:
                 and self.drops == other.drops)
 
     def __repr__(self):
-        told = option_values(self)
-        shown = [f"{name}={value!r}" for (name, value), usual in zip(told, DEFAULTS) if value != usual]
+        shown = [f"{name}={value!r}" for (name, value), usual in zip(option_values(self), DEFAULTS)
+                 if value != usual]
         return f"Sweep({', '.join(shown)})"
 
     def __call__(self, spans):

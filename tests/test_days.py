@@ -229,12 +229,14 @@ class DrawingTest(unittest.TestCase):
                 self.assertIs(caught.exception.columns, wrong)
         self.assertEqual(len(Days(240).drawn([], 0, 120)), 120)
         for columns in (121, 144, 240, 1440):
-            with self.assertRaises(BadColumns):
-                Days().drawn([], 0, columns)
+            for days in (Days(), Days(columns)):
+                with self.assertRaises(BadColumns):
+                    days.drawn([], 0, columns)
         with self.assertRaises(BadColumns):
             Days(20).drawn([], 0)
         with self.assertRaises(BadColumns):
             Days(20).drawing([], 0, 0)
+        days = Days(24)
         with self.assertRaises(TooFar) as caught:
             days.drawn([], far, 4)
         self.assertEqual(caught.exception.edge, 24 * far)

@@ -216,6 +216,12 @@ class AskTest(DeskCase):
                   "rule join each else: pass", "4", "judge join moments some any half", f"right {len(judge(known.joining(skips=False), Moments('some', form='any')).table)}",
                   "needs ends number all half", "any", "part ends ends shut", "alike", "loop other end", "other", "part ends other shut", "part 1")
 
+    def test_several_needs(self):
+        desk = Desk()
+        self.does(desk, "loop a any", "a", "rule a each set low, low == begin, end < high: drop low; put low low", "1",
+                  "rule a each else: keep low begin; keep high end; add 1", "2", "needs a number all half", "begin end, end",
+                  "needs a number full half", "none")
+
     def test_errors_of_the_functions(self):
         desk = filled()
         desk.run(["loop wide end", "rule wide each else: keep low begin; keep high begin; keep mark begin", "loop b end back"])

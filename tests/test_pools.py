@@ -331,6 +331,7 @@ class AskedTest(unittest.TestCase):
     def test_too_wide(self):
         low, high = Rule(do=[("keep", "low", "first")]), Rule(do=[("keep", "high", "first")])
         mark, window = Rule(do=[("drop", "mark")]), Rule(("<", "left", "right"))
+        left, right = Rule(("==", "left", "first")), Rule(do=[("put", "right", "last")])
         for order, sorts, rules, wish, wide in [
             ("begin", ["any"], [low, high, mark], Number("all"), False),
             ("begin", ["begin end"], [low, high, mark], Number("all"), True),
@@ -342,6 +343,8 @@ class AskedTest(unittest.TestCase):
             ("any", ["any"], [low, high, window], Number("left"), False),
             ("any", ["any", "begin"], [low, high, window], Number("left"), True),
             ("any", ["any"], [low, high, mark, window], Number("all"), True),
+            ("any", ["any"], [low, high, mark, left], Number("all"), True),
+            ("any", ["any"], [low, high, mark, right], Number("all"), True),
             ("any", ["any"], [low, high, mark], Moments("some", within=True), True),
             ("begin end", ["any"], [low], Moments("some", form="cut"), True),
             ("begin end", ["any"], [], Moments("some", form="cut"), False),

@@ -261,6 +261,12 @@ class DecidesTest(PartingCase):
         for order, fewest in [("at", 2), ("at in", 2), ("at out", None)]:
             found = self.assert_fewest(Loop(order, each=ins), Loop(order), "half", 3)
             self.assertEqual(found and len(found.witness), fewest)
+        # Equal events, and other ones at the same edge, follow each other as the order lets them.
+        for first, second, due in [("in", "in", (2, 2, 2)), ("out", "out", (2, 2, 2)), ("in", "out", (2, 2, None)), ("out", "in", (2, None, 2))]:
+            twice = [Rule((second,), ("set", "low"), ("==", "low", "at"), do=[("add", 1)]), Rule((first,), do=[("keep", "low", "at")])]
+            for order, fewest in zip(EVENT_ORDERS, due):
+                found = self.assert_fewest(Loop(order, each=twice), Loop(order, each=twice[1:]), "half", 3)
+                self.assertEqual(found and (found.kind, len(found.witness)), fewest and ("number", fewest))
         for order in EVENT_ORDERS:
             found = self.assert_fewest(known.switches(order), known.switches_in_one_form(order), "shut", 3)
             self.assertIsNotNone(found)

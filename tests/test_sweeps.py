@@ -160,6 +160,7 @@ class PeakTest(unittest.TestCase):
         for sweep, spans, greatest, peak in [
             (Sweep(), [], 0, None),
             (Sweep(), [(3, 3)], 0, None),
+            (Sweep(), [(3, 3), (5, 5)], 0, None),
             (Sweep(ties="begins"), [(3, 3)], 1, (3, 3, 1)),
             (Sweep(ties="begins", settles=True), [(3, 3)], 0, None),
             (Sweep(ties="begins", skips=True), [(3, 3)], 0, None),

@@ -226,7 +226,7 @@ class RuleTextTest(TextCase):
             "else: drop", "else: drop begin", "else: drop low high", "else: put low", "else: put low high end", "else: put", "else: put low min high",
             "else: put min low high", "else: put 1 2", "else: put low, high", "else: add", "else: add +1", "else: add 01", "else: add -0",
             "else: add 10", "else: add -10", "else: add 1 2", "else: add one", "else: add low", "else: say", "else: say True", "else: say Yes",
-            "else: say yes no", "else: say 1", "else: stop stop", "else: stop; add 1", "else: say yes; add 1", "else: say yes; stop",
+            "else: say yes no", "else: say 1", "else: drop yes", "else: tell no", "else: stop yes", "else: yes", "else: no", "else: stop stop", "else: stop; add 1", "else: say yes; add 1", "else: say yes; stop",
             "else: stop; stop", f"{four}, in: pass", f"else: {deeds}; add 1", f"else: {deeds}; stop", "low = begin: pass", "in@5: pass",
         ]:
             self.assert_bad(read_rule, text)
